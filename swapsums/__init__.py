@@ -1,0 +1,1 @@
+"""Sums that stay under all exchanges of letters, told exactly."""
