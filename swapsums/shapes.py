@@ -52,3 +52,8 @@ def shapes_to(n, most):
 def is_within(inner, outer):
     """Whether the inner shape lies within the outer one."""
     return len(inner) <= len(outer) and all(part <= room for part, room in zip(inner, outer))
+
+
+def without_noughts(numbers):
+    """The SHAPE that falling numbers from 0 on are, without the noughts behind."""
+    return tuple(number for number in numbers if number > 0)

@@ -55,8 +55,10 @@ class Shapes(unittest.TestCase):
         same(self, often((3,)), ((3, 1),))
         same(self, often((5, 2, 2, 1, 1, 1)), ((1, 3), (2, 2), (5, 1)))
         same(self, often((30,) * 12), ((30, 12),))
+        same(self, often((30, 29, 7, 7, 7, 1)), ((1, 1), (7, 3), (29, 1), (30, 1)))
         for shape in SOME:
-            same(self, tuple(sorted((part for part, many in often(shape) for k in range(many)), reverse=True)), shape)
+            same(self, tuple(part for part, many in often(shape)[::-1] for k in range(many)), shape)
+            self.assertEqual(len(often(shape)), len(set(shape)))
 
     def test_weight(self):
         same(self, weight(()), 1)
