@@ -25,7 +25,7 @@ def shape_meant(way, shape, n):
         return each_once(n, [content_of(n, table) for table in filled((shape, ()), n, None)])
     product = each_once(n, [(0,) * n])
     for part in shape:
-        product = poly_times(product, each_once(n, part_powers(way, part, n)))
+        product = poly_times(product, each_once(n, part_powers(way, part, (part,) * n)))
     return product
 
 
@@ -50,18 +50,19 @@ def without(numbers, number):
     return numbers[:at] + numbers[at + 1:]
 
 
-def part_powers(way, part, n):
-    """The POWERS of n letters that a part means by powers, choices or repeats."""
+def part_powers(way, part, rooms):
+    """The POWERS, none above the room at its place, that a part means by powers, choices or repeats."""
     if way == "powers":
-        return [(0,) * i + (part,) + (0,) * (n - 1 - i) for i in range(n)]
-    return shared_out(part, n, 1 if way == "choices" else part)
+        n = len(rooms)
+        return [(0,) * i + (part,) + (0,) * (n - 1 - i) for i in range(n) if rooms[i] >= part]
+    return shared_out(part, [min(room, 1) for room in rooms] if way == "choices" else rooms)
 
 
-def shared_out(many, n, most):
-    """All tuples of n whole numbers from 0 to most that come to so many."""
+def shared_out(many, rooms):
+    """All tuples of whole numbers from 0 on that come to so many, none above the room at its place."""
     grown = [((), many)]
-    for place in range(n):
-        grown = [(powers + (more,), left - more) for powers, left in grown for more in range(min(most, left) + 1)]
+    for room in rooms:
+        grown = [(powers + (more,), left - more) for powers, left in grown for more in range(min(room, left) + 1)]
     return [powers for powers, left in grown if left == 0]
 
 

@@ -57,3 +57,8 @@ def is_within(inner, outer):
 def without_noughts(numbers):
     """The SHAPE that falling numbers from 0 on are, without the noughts behind."""
     return tuple(number for number in numbers if number > 0)
+
+
+def shape_of(numbers):
+    """The SHAPE that has these numbers from 0 on as parts, in whatever order, noughts left out."""
+    return without_noughts(sorted(numbers, reverse=True))
