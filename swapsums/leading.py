@@ -4,7 +4,7 @@ from swapsums.meaning import part_powers
 from swapsums.ratios import ONE, over
 from swapsums.shapes import columns, shape_of, shapes_of, size_of
 from swapsums.strips import counted
-from swapsums.sums import added, scaled, sum_of
+from swapsums.sums import added, scaled, spread, sum_of
 
 
 def in_shapes(way, shape):
@@ -22,7 +22,7 @@ def product_numbers(way, shape):
     size = 0
     for part in shape:
         size += part
-        numbers = {other: sum(numbers.get(left, 0) for left in lefts(way, part, other)) for other in shapes_of(size)}
+        numbers = {other: sum(numbers[left] for left in lefts(way, part, other)) for other in shapes_of(size)}
     return numbers
 
 
@@ -41,10 +41,7 @@ def led(way, other, some):
 
 def to_shapes(way, some):
     """The SUM of shapes that is ONE with a SUM of a way."""
-    pairs = []
-    for shape, number in some:
-        pairs.extend(scaled(number, in_shapes(way, shape)))
-    return sum_of(pairs)
+    return spread(some, lambda shape: in_shapes(way, shape))
 
 
 def from_shapes(way, some):

@@ -1,20 +1,17 @@
 """What TELLINGs mean with n letters."""
 
 from swapsums.errors import NoStay
-from swapsums.letters import least_moving, poly_of, poly_scaled, poly_times
+from swapsums.letters import least_moving, poly_of, poly_times
 from swapsums.plain import is_falling
 from swapsums.ratios import ONE
 from swapsums.shapes import without_noughts
-from swapsums.sums import sum_of
+from swapsums.sums import spread, sum_of
 from swapsums.tables import content_of, filled
 
 
 def meant(way, some, n):
     """The MEANING of a TELLING with n letters."""
-    pairs = []
-    for shape, number in some:
-        pairs.extend(poly_scaled(number, shape_meant(way, shape, n)))
-    return poly_of(n, pairs)
+    return spread(some, lambda shape: shape_meant(way, shape, n))
 
 
 def shape_meant(way, shape, n):

@@ -49,6 +49,14 @@ def scaled(number, some):
     return sum_of([(shape, times(number, worth)) for shape, worth in some])
 
 
+def spread(some, terms_of):
+    """The SUM to which a SUM comes where each shape stands for the pairs terms_of(shape)."""
+    pairs = []
+    for shape, number in some:
+        pairs.extend(scaled(number, terms_of(shape)))
+    return sum_of(pairs)
+
+
 def of_size(some, n):
     """The pairs of a SUM whose shapes are of size n."""
     return tuple((shape, number) for shape, number in some if size_of(shape) == n)
