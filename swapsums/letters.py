@@ -2,7 +2,7 @@
 
 from swapsums.plain import is_rising, is_whole
 from swapsums.ratios import NOUGHT, ONE, plus, power, times
-from swapsums.sums import added, are_terms, scaled, sum_of
+from swapsums.sums import added, are_terms, scaled, sum_of, terms_times
 
 # A POLY is kept as a SUM is, with POWERS where shapes stand: what adds and scales SUMs does so with POLYs.
 
@@ -33,7 +33,7 @@ def poly_added(one, other):
 
 def poly_times(one, other):
     """The product of two POLYs of as many letters."""
-    return sum_of([(powers_times(mine, yours), times(number, worth)) for mine, number in one for yours, worth in other])
+    return terms_times(one, other, powers_times)
 
 
 def powers_times(one, other):

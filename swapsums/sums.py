@@ -57,6 +57,17 @@ def spread(some, terms_of):
     return sum_of(pairs)
 
 
+def terms_times(one, other, together):
+    """The SUM of all products of pairs of two SUMs, together(key, key) being what two shapes, or what stands for
+    them, come to."""
+    return sum_of([(together(mine, yours), times(number, worth)) for mine, number in one for yours, worth in other])
+
+
+def greatest_size(some):
+    """The greatest size of a SUM's shapes, 0 where it has none."""
+    return max([size_of(shape) for shape, number in some], default=0)
+
+
 def of_size(some, n):
     """The pairs of a SUM whose shapes are of size n."""
     return tuple((shape, number) for shape, number in some if size_of(shape) == n)

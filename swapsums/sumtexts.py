@@ -43,7 +43,7 @@ def read_pair(word):
     """The pair (SHAPE, RATIO) that a word writes, or None."""
     ahead, colon, behind = word.partition(":")
     shape = read_shape(ahead)
-    number = read_ratio(behind)
+    number = read_ratio(behind, RATIO_FIGURES)
     if shape is None or number is None:
         return None
     return (shape, number)
@@ -59,12 +59,12 @@ def read_shape(text):
     return tuple(parts)
 
 
-def read_ratio(text):
-    """The RATIO, not nought, that a text writes, or None."""
+def read_ratio(text, most):
+    """The RATIO, not nought, that a text writes, its top and bottom of at most so many figures, or None."""
     ahead, stroke, behind = text.partition("/")
     sign, figures = (-1, ahead[1:]) if ahead.startswith("-") else (1, ahead)
-    top = read_figures(figures, RATIO_FIGURES)
-    bottom = read_figures(behind, RATIO_FIGURES) if stroke else 1
+    top = read_figures(figures, most)
+    bottom = read_figures(behind, most) if stroke else 1
     # A bottom 1 is never written; None is no number of a RATIO.
     if (stroke and bottom == 1) or not is_ratio((top, bottom)):
         return None
