@@ -5,7 +5,7 @@ from plain_things import same
 from swapsums.errors import NoMade, TooMany
 from swapsums.headchecker import contents_of, heads_of, lets_made, lets_words
 from swapsums.headpapers import made_paper, product_paper, words_of
-from swapsums.leading import led
+from swapsums.leading import are_one, led
 from swapsums.letters import poly_times
 from swapsums.meaning import meant
 from swapsums.products import times_sum
@@ -128,6 +128,8 @@ class MadePaper(Papers):
                     self.right_paper(n, paper)
                     self.assertIs(lets_made(n, shapes, paper), True)
                     same(self, heads_of(n, paper), few_parts(n, some))
+                    if n >= max([sum(shape) for shape, number in some], default=0):
+                        self.assertIs(are_one(("shapes", shapes), ("tables", heads_of(n, paper))), True)
 
     def test_of_other_ways(self):
         for way in ("powers", "choices", "repeats"):

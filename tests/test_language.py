@@ -62,6 +62,29 @@ class Language(unittest.TestCase):
                     for alias in node.names:
                         self.assertIn(alias.name, defined[node.module.split(".")[1]], name)
 
+    def test_no_two_files_import_from_each_other(self):
+        needs = {name[:-3]: {node.module.split(".")[1] for node in tree.body if isinstance(node, ast.ImportFrom)}
+                 for name, tree in trees()}
+        while needs:
+            free = {name for name in needs if not needs[name] & set(needs)}
+            self.assertTrue(free, sorted(needs))
+            needs = {name: needs[name] for name in needs if name not in free}
+
+    def test_is_stands_with_none_and_truths_alone(self):
+        for name, tree in trees():
+            for node in ast.walk(tree):
+                if isinstance(node, ast.Compare):
+                    for sign, other in zip(node.ops, node.comparators):
+                        if isinstance(sign, (ast.Is, ast.IsNot)):
+                            self.assertIsInstance(other, ast.Constant, name)
+                            self.assertIn(other.value, (None, True, False), name)
+
+    def test_raise_makes_its_error(self):
+        for name, tree in trees():
+            for node in ast.walk(tree):
+                if isinstance(node, ast.Raise):
+                    self.assertTrue(isinstance(node.exc, ast.Call) and isinstance(node.exc.func, ast.Name), name)
+
     def test_names(self):
         for name, tree in trees():
             imported = {alias.asname or alias.name for node in tree.body if isinstance(node, ast.ImportFrom)
